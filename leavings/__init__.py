@@ -1,0 +1,1 @@
+"""Leavings: unlike rows left by leaving letters out."""

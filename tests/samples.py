@@ -1,0 +1,122 @@
+"""Rows and things that several tests use."""
+
+import itertools
+import random
+
+
+class Prickly:
+    """An object that fails at whatever is asked of it."""
+
+    def fail(self, *rest):
+        raise RuntimeError("asked of an object that is no row")
+
+    __eq__ = __ne__ = __lt__ = __le__ = __gt__ = __ge__ = fail
+    __len__ = __iter__ = __getitem__ = __contains__ = __bool__ = fail
+    __str__ = __repr__ = __hash__ = __int__ = __index__ = __call__ = fail
+
+
+class Plain:
+    """An object of some class."""
+
+
+class RowLike:
+    """An object with the letters of a row that is no text."""
+
+    def __len__(self):
+        return 1
+
+    def __getitem__(self, at):
+        return "a"[at]
+
+    def __eq__(self, other):
+        return other == "a"
+
+    def __str__(self):
+        return "a"
+
+
+def deep_list(depth):
+    thing = []
+    for _ in range(depth):
+        thing = [thing]
+    return thing
+
+
+def deep_tuple(depth):
+    thing = ("a",)
+    for _ in range(depth):
+        thing = (thing,)
+    return thing
+
+
+def deep_mixed(depth):
+    thing = "a"
+    for at in range(depth):
+        thing = [thing] if at % 2 else (thing, "a")
+    return thing
+
+
+def deep_dict(depth):
+    thing = {}
+    for _ in range(depth):
+        thing = {"a": thing}
+    return thing
+
+
+def round_list():
+    thing = []
+    thing.append(thing)
+    return thing
+
+
+def other_things():
+    """Pairs of a name and a thing that is no text; names stand in for things that can't be shown."""
+    return [
+        ("nought", 0), ("one", 1), ("minus one", -1), ("great", 10 ** 60), ("small", -10 ** 60),
+        ("True", True), ("False", False), ("None", None),
+        ("empty list", []), ("list of a letter", ["a"]), ("list of letters", ["a", "b"]),
+        ("empty tuple", ()), ("tuple of a letter", ("a",)), ("tuple of letters", ("a", "b")),
+        ("empty dict", {}), ("dict of a letter", {"a": 0}),
+        ("empty set", set()), ("set of a letter", {"a"}), ("frozen set", frozenset("a")),
+        ("empty bytes", b""), ("bytes of letters", b"ab"), ("bytearray", bytearray(b"ab")),
+        ("range", range(3)), ("iterator", iter("ab")), ("a class", str), ("a function", len),
+        ("an object", Plain()), ("a bare object", object()), ("a row-like object", RowLike()),
+        ("a prickly object", Prickly()),
+        ("deep list", deep_list(5000)), ("deep tuple", deep_tuple(5000)),
+        ("deep lists and tuples", deep_mixed(5001)), ("deep dict", deep_dict(5000)),
+        ("very deep list", deep_list(100000)), ("list in itself", round_list()),
+    ]
+
+
+def wrong_texts():
+    """Texts with one sign that is no small letter, at the beginning, between and at the end."""
+    signs = [chr(code) for code in range(ord(" "), ord("~") + 1)]
+    wrong = ["\n"] + [sign for sign in signs if sign not in "abcdefghijklmnopqrstuvwxyz"]
+    texts = []
+    for sign in wrong:
+        texts += [sign, sign + "abz", "ab" + sign + "z", "abz" + sign, sign + sign]
+    return texts
+
+
+def short_rows(letters, longest):
+    """All rows of the letters, from the one of none on up to a length."""
+    rows = []
+    for length in range(longest + 1):
+        rows += ["".join(row) for row in itertools.product(letters, repeat=length)]
+    return rows
+
+
+def long_rows():
+    """Rows of up to 80 letters, the same ones at each run."""
+    chance = random.Random(20)
+    rows = ["a" * 80, "ab" * 40, "abcdefghijklmnopqrstuvwxyz" * 3 + "ab", "a" * 79 + "z", "z" + "a" * 79]
+    for letters in ["ab", "abc", "abcdefgh", "abcdefghijklmnopqrstuvwxyz"]:
+        for length in [1, 2, 17, 79, 80]:
+            rows.append("".join(chance.choice(letters) for _ in range(length)))
+    return rows
+
+
+def thinned(row, share):
+    """A row left of the row, of about a share of its letters in a hundred, the same one at each run."""
+    chance = random.Random(share)
+    return "".join(letter for letter in row if chance.randrange(100) < share)

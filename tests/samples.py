@@ -3,6 +3,8 @@
 import itertools
 import random
 
+SMALL = "abcdefghijklmnopqrstuvwxyz"
+
 
 class Prickly:
     """An object that fails at whatever is asked of it."""
@@ -91,7 +93,7 @@ def other_things():
 def wrong_texts():
     """Texts with one sign that is no small letter, at the beginning, between and at the end."""
     signs = [chr(code) for code in range(ord(" "), ord("~") + 1)]
-    wrong = ["\n"] + [sign for sign in signs if sign not in "abcdefghijklmnopqrstuvwxyz"]
+    wrong = ["\n"] + [sign for sign in signs if sign not in SMALL]
     texts = []
     for sign in wrong:
         texts += [sign, sign + "abz", "ab" + sign + "z", "abz" + sign, sign + sign]
@@ -109,11 +111,63 @@ def short_rows(letters, longest):
 def long_rows():
     """Rows of up to 80 letters, the same ones at each run."""
     chance = random.Random(20)
-    rows = ["a" * 80, "ab" * 40, "abcdefghijklmnopqrstuvwxyz" * 3 + "ab", "a" * 79 + "z", "z" + "a" * 79]
-    for letters in ["ab", "abc", "abcdefgh", "abcdefghijklmnopqrstuvwxyz"]:
+    rows = ["a" * 80, "ab" * 40, SMALL * 3 + "ab", "a" * 79 + "z", "z" + "a" * 79]
+    for letters in ["ab", "abc", "abcdefgh", SMALL]:
         for length in [1, 2, 17, 79, 80]:
             rows.append("".join(chance.choice(letters) for _ in range(length)))
     return rows
+
+
+def shaped_rows():
+    """Rows of none to 80 letters, of one, two, three, five and all letters, repeated and mirrored ones."""
+    chance = random.Random(7)
+    rows = [""]
+    for letters in ["a", "yz", "abc", "bdfhz", SMALL]:
+        for length in [1, 2, 3, 5, 12, 26, 40, 79, 80]:
+            rows.append("".join(chance.choice(letters) for _ in range(length)))
+            rows.append((letters * 80)[:length])
+            rows.append((letters[::-1] * 80)[:length])
+        half = "".join(chance.choice(letters) for _ in range(40))
+        rows += [half + half[::-1], half[:39] + half[::-1], half * 2]
+        rows.append("".join(letter * 3 for letter in letters)[:80])
+    return rows
+
+
+def some_numbers(many, most):
+    """At most about so many numbers from 0 on below many, rising, the ends among them."""
+    if many <= most:
+        return list(range(many))
+    chance = random.Random(many)
+    numbers = {0, 1, 2, many // 2, many - 3, many - 2, many - 1}
+    numbers |= {chance.randrange(many) for _ in range(most)}
+    return sorted(numbers)
+
+
+def all_left(row):
+    """All unlike rows left of the row, as texts are ordered, by leaving out letters in each way there is."""
+    found = {""}
+    for letter in row:
+        found |= {left + letter for left in found}
+    return sorted(found)
+
+
+def wrong_places(many):
+    """Pairs of a name and a thing that is no whole number from 0 on below many."""
+    numbers = [-1, -2, -many, -many - 1, -10 ** 60, many, many + 1, 2 * many + 1, many + 2 ** 64, 10 ** 60]
+    # Minus nought is no number below 0.
+    pairs = [("number " + str(number), number) for number in numbers if not 0 <= number < many]
+    pairs += [("text " + text, text) for text in ["", "0", "1", "-1", "a", " 0", "0\n", "None", "0" * 3000]]
+    pairs += [("list of nought", [0]), ("tuple of nought", (0,)), ("dict of nought", {0: 0}), ("bytes", b"0")]
+    whole = ["nought", "one", "minus one", "great", "small"]
+    return pairs + [pair for pair in other_things() if pair[0] not in whole]
+
+
+def wrong_rows(row):
+    """Pairs of a name and a thing that isn't left of the row."""
+    texts = wrong_texts() + [row + "a", "z" + row, row + row + "q", "ab" * 1500, (row + "A")[-3:], row + "\n", " " + row]
+    pairs = [("text " + text[:90], text) for text in texts]
+    pairs += [("its letters in a list", list(row)), ("its letters in a tuple", tuple(row)), ("in bytes", row.encode())]
+    return pairs + other_things()
 
 
 def thinned(row, share):

@@ -85,6 +85,38 @@ class LanguageTest(unittest.TestCase):
                 self.assertRegex(node.module, r"\A(leavings\.[a-z_]+|__future__)\Z", name)
                 self.assertNotIn("*", [alias.name for alias in node.names], name)
 
+    def test_imports_name_the_file_that_defines(self):
+        defined = {}
+        for name, text in sources():
+            defined["leavings." + name[:-3]] = {
+                bound for node in ast.parse(text).body for bound in bound_names(node)
+            }
+        for name, node in nodes():
+            if isinstance(node, ast.ImportFrom) and node.module != "__future__":
+                for alias in node.names:
+                    self.assertIn(alias.name, defined[node.module], name)
+
+    def test_no_two_files_import_from_each_other(self):
+        imported = {"leavings." + name[:-3]: set() for name, _ in sources()}
+        for name, node in nodes():
+            if isinstance(node, ast.ImportFrom) and node.module in imported:
+                imported["leavings." + name[:-3]].add(node.module)
+        while imported:
+            # Files that import from none of the rest are taken away, until none is there.
+            free = [name for name in imported if not imported[name] & set(imported)]
+            self.assertTrue(free, imported)
+            for name in free:
+                del imported[name]
+
+    def test_no_local_has_the_name_of_an_import_or_a_class(self):
+        for name, text in sources():
+            tree = ast.parse(text)
+            taken = {alias.name for node in tree.body if isinstance(node, ast.ImportFrom) for alias in node.names}
+            taken |= {node.name for node in tree.body if isinstance(node, ast.ClassDef)}
+            for node in ast.walk(tree):
+                if isinstance(node, (ast.arg, ast.Name)):
+                    self.assertEqual(taken & set(bound_names(node)), set(), (name, node.lineno))
+
     def test_only_allowed_builtins(self):
         known = set(dir(builtins))
         for name, node in nodes():

@@ -7,6 +7,13 @@ def is_row(thing):
     return isinstance(thing, str) and all("a" <= letter <= "z" for letter in thing)
 
 
+def is_letters(thing):
+    """Whether a thing is a text of one or more unlike small letters, rising."""
+    if not is_row(thing) or not thing:
+        return False
+    return all(thing[at] < thing[at + 1] for at in range(len(thing) - 1))
+
+
 def is_left(row, thing):
     """Whether a thing is a row that comes of the row by leaving letters out."""
     return is_row(thing) and first_places(row, thing) is not None

@@ -1,4 +1,6 @@
-"""Steps by which ordered rows and ways are found by their numbers, and numbers by them."""
+"""Steps that several modules take: along the rows left of one row or of two, by numbers and by letters."""
+
+from leavings.nexts import next_table
 
 
 def is_place(thing, many):
@@ -28,3 +30,33 @@ def pick(places, many, number):
 def many_ahead(heads, many, letter):
     """How many of those that go on with one of the heads' letters do so with a lesser one than the letter."""
     return sum(many[place + 1] for head, place in heads.items() if head < letter)
+
+
+def onward(one, other):
+    """For pairs of places, one of each row: the pairs behind the next letter that both may go on with.
+
+    A pair's onward ones stand in the order of their letters. The pairs are those behind
+    a letter that both rows have there, the ends first, and the beginning of both at last.
+    """
+    one_table = next_table(one)
+    other_table = next_table(other)
+    letters = sorted(set(one) & set(other))
+    found = {}
+    for place, spot in meetings(one, other):
+        heads = one_table[place]
+        tails = other_table[spot]
+        found[(place, spot)] = [
+            (heads[letter] + 1, tails[letter] + 1) for letter in letters if letter in heads and letter in tails
+        ]
+    return found
+
+
+def meetings(one, other):
+    """The pairs of places behind a letter that both rows have there, the ends first, then (0, 0)."""
+    pairs = []
+    for place in reversed(range(len(one))):
+        for spot in reversed(range(len(other))):
+            if one[place] == other[spot]:
+                pairs.append((place + 1, spot + 1))
+    pairs.append((0, 0))
+    return pairs

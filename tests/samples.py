@@ -174,3 +174,38 @@ def thinned(row, share):
     """A row left of the row, of about a share of its letters in a hundred, the same one at each run."""
     chance = random.Random(share)
     return "".join(letter for letter in row if chance.randrange(100) < share)
+
+
+def row_pairs():
+    """Pairs of rows: alike, one left of the other, a letter otherwise or more, mirrored, drawn, of unlike letters."""
+    chance = random.Random(14)
+    pairs = [("", ""), ("", "a"), ("z", ""), ("a" * 80, "a" * 79), ("ab" * 40, "ba" * 40), (SMALL * 3, SMALL[::-1] * 3)]
+    for letters in ["a", "by", "xyz", "bdfhz", SMALL]:
+        for length in [1, 7, 26, 80]:
+            row = "".join(chance.choice(letters) for _ in range(length))
+            drawn = "".join(chance.choice(letters) for _ in range(chance.randrange(length + 1)))
+            at = chance.randrange(length)
+            otherwise = row[:at] + chance.choice(SMALL) + row[at + 1:]
+            more = (row[:at] + chance.choice(letters) + row[at:])[:80]
+            unlike = "".join(letter for letter in SMALL if letter not in row) * 2
+            others = [row, thinned(row, 50), row[1:], otherwise, more, row[::-1], drawn, unlike, (letters * 80)[:length]]
+            pairs += [(row, other) for other in others]
+            pairs += [(other, row) for other in others[1:4]]
+    return pairs
+
+
+def some_letters(row):
+    """Texts of unlike letters, rising: the row's own, with one that it hasn't got, with one less, one, and all."""
+    own = "".join(sorted(set(row)))
+    lacked = [letter for letter in SMALL if letter not in row]
+    found = {own, own[1:], own[:-1], own[:1], own[-1:], own[::2], SMALL, "a", "z", "mn"}
+    found |= {"".join(sorted(own + letter)) for letter in lacked[:1] + lacked[-1:]}
+    return sorted(found - {""})
+
+
+def wrong_letters():
+    """Pairs of a name and a thing that is no text of unlike small letters, rising."""
+    texts = ["", "aa", "zz", "ba", "za", "aba", "abb", "aab", "acb", "abcdefgg", SMALL + "z", "a" + SMALL, SMALL[::-1]]
+    texts += ["A", "AB", "aB", "Ab", "ABC", "0", "1", "a1", "1a", " ", "a ", " a", "a b", "  ", "\n", "a\n", "\na", "a\nb"]
+    texts += ["-", "a-z", "a,b", "None", "a" * 3000, SMALL * 100]
+    return [("text " + text[:90], text) for text in texts + wrong_texts()] + other_things()

@@ -209,3 +209,9 @@ def wrong_letters():
     texts += ["A", "AB", "aB", "Ab", "ABC", "0", "1", "a1", "1a", " ", "a ", " a", "a b", "  ", "\n", "a\n", "\na", "a\nb"]
     texts += ["-", "a-z", "a,b", "None", "a" * 3000, SMALL * 100]
     return [("text " + text[:90], text) for text in texts + wrong_texts()] + other_things()
+
+
+def wrong_single_letters():
+    """Pairs of a name and a thing that is no small letter."""
+    texts = ["", "ab", "aa", "A", "Z", "0", " ", "\n", "a\n", "\na", " a", "a ", "-", "`", "{", "abc" * 1000, SMALL]
+    return [("text " + text[:90], text) for text in texts + wrong_texts()] + other_things()

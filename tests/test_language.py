@@ -89,7 +89,8 @@ class LanguageTest(unittest.TestCase):
         defined = {}
         for name, text in sources():
             defined["leavings." + name[:-3]] = {
-                bound for node in ast.parse(text).body for bound in bound_names(node)
+                bound for node in ast.parse(text).body for part in [node, *getattr(node, "targets", [])]
+                for bound in bound_names(part)
             }
         for name, node in nodes():
             if isinstance(node, ast.ImportFrom) and node.module != "__future__":

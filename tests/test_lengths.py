@@ -38,7 +38,7 @@ class LengthsTest(unittest.TestCase):
             counts = by_lengths(row)
             for length in sorted({0, 1, 2, len(row) // 2, len(row) - 1, len(row)}):
                 if 0 <= length <= len(row):
-                    self.check_length(row, length, some_numbers(counts[length], 10))
+                    self.check_length(row, length, some_numbers(counts[length], 4))
 
     def check_length(self, row, length, numbers):
         ahead = None

@@ -29,11 +29,6 @@ def read_number(word):
     return int(word)
 
 
-def read_signs(word):
-    """The word itself: what is refused in it is refused by whom it is handed to."""
-    return word
-
-
 def show_row(row):
     """The word that tells a row, - of none."""
     return row if row else "-"
@@ -115,42 +110,53 @@ def do_arches(desk, letters):
     return show_list(arches(desk.growing.row(), letters))
 
 
-# For each first word what is done, and how each of the words behind it is read.
+# For each first word what is done, and for each word behind it a sign: R for a row, N for a number,
+# S for any signs, which are refused, where they are, by what is done.
 COMMANDS = {
-    "row": (do_row, (read_row,)),
-    "other": (do_other, (read_row,)),
-    "put": (do_put, (read_signs,)),
-    "undo": (do_undo, ()),
-    "show": (do_show, ()),
-    "many": (do_many, ()),
-    "lengths": (do_lengths, ()),
-    "left": (do_left, (read_row,)),
-    "at": (do_at, (read_number,)),
-    "place": (do_place, (read_row,)),
-    "long": (do_long, (read_number, read_number)),
-    "ways": (do_ways, ()),
-    "way": (do_way, (read_number,)),
-    "common": (do_common, ()),
-    "parts": (do_parts, ()),
-    "short": (do_short, (read_signs,)),
-    "arches": (do_arches, (read_signs,)),
+    "row": (do_row, "R"),
+    "other": (do_other, "R"),
+    "put": (do_put, "S"),
+    "undo": (do_undo, ""),
+    "show": (do_show, ""),
+    "many": (do_many, ""),
+    "lengths": (do_lengths, ""),
+    "left": (do_left, "R"),
+    "at": (do_at, "N"),
+    "place": (do_place, "R"),
+    "long": (do_long, "NN"),
+    "ways": (do_ways, ""),
+    "way": (do_way, "N"),
+    "common": (do_common, ""),
+    "parts": (do_parts, ""),
+    "short": (do_short, "S"),
+    "arches": (do_arches, "S"),
 }
 
 
-def read_words(words):
-    """What is to be done by a row of words, and the values read off the words behind the first; NoCommand."""
+def split_words(words):
+    """The words of a row of words, the first of which is known; NoCommand."""
     if not isinstance(words, str):
         raise NoCommand("no text")
-    name, *rest = words.split(" ")
-    if name not in COMMANDS:
+    found = words.split(" ")
+    if found[0] not in COMMANDS:
         raise NoCommand("no such command")
-    action, readers = COMMANDS[name]
-    if len(rest) != len(readers):
+    return found
+
+
+def read_values(kinds, words):
+    """What the words tell, each as its kind is read; NoCommand."""
+    if len(words) != len(kinds):
         raise NoCommand("words too few or too many")
-    values = []
-    for reader, word in zip(readers, rest):
-        values.append(reader(word))
-    return action, values
+    return [read_word(kind, word) for kind, word in zip(kinds, words)]
+
+
+def read_word(kind, word):
+    """What a word of the kind tells; NoCommand."""
+    if kind == "R":
+        return read_row(word)
+    if kind == "N":
+        return read_number(word)
+    return word
 
 
 class Desk:
@@ -162,5 +168,7 @@ class Desk:
 
     def say(self, words):
         """The answer to a row of words; NoCommand, then what the command itself refuses."""
-        action, values = read_words(words)
+        name, *rest = split_words(words)
+        action, kinds = COMMANDS[name]
+        values = read_values(kinds, rest)
         return action(self, *values)
